@@ -1,0 +1,1 @@
+"""Beadrods: the hand abacus, in several manners."""
