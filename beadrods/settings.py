@@ -125,14 +125,25 @@ def longer_fewest(manner, ahead, fewest):
 
 def plain_setting(manner, rods, number):
     check_asked(manner, rods, number)
-    setting = ()
-    left = number
-    while len(setting) < rods:
-        setting = (fewest_beads(manner, left % manner[3]),) + setting
-        left = left // manner[3]
-    if left > 0:
+    return plain_rods(manner, rods, number)
+
+
+# Unlike plain_setting this refuses no number above 99999 as none, as settings can have such numbers.
+def plain_rods(manner, rods, number):
+    digits = digits_by_rods(manner[3], rods, number)
+    if digits[0] >= manner[3]:
         raise TooGreat("the number has more digits than there are rods")
-    return setting
+    return tuple([fewest_beads(manner, digit) for digit in digits])
+
+
+# A digit for each rod; digits that have no rod stay together in the first one, which is then the base or more.
+def digits_by_rods(base, rods, number):
+    digits = []
+    left = number
+    while len(digits) < rods - 1:
+        digits.insert(0, left % base)
+        left = left // base
+    return [left] + digits
 
 
 def all_beads(manner, setting):

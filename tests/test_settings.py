@@ -7,28 +7,12 @@ from beadrods import settings
 from beadrods.errors import NoManner, NoNumber, NoSetting, TooGreat
 from beadrods.manners import is_manner
 from going_through import (
-    MANNERS, STRANGE, beads_by_hand, digits_by_hand, number_by_hand, rods_of, settings_by_number, worth_of,
+    MANNERS, NO_MANNERS, NO_NUMBERS, NO_ROD_NUMBERS, NO_SETTINGS, SOROBAN, SUANPAN, beads_by_hand,
+    number_by_hand, plain_by_hand, rods_of, settings_by_number, some_numbers, worth_of,
 )
 
-SOROBAN = (1, 5, 4, 10)
-SUANPAN = (2, 5, 5, 10)
-NO_MANNERS = STRANGE + [[1, 5, 4, 10], (1, 5, 4), (1, 5, 4, 10, 0), (1, 5, 3, 10), (True, 5, 4, 10), (1, 5, 4, 17)]
-NO_SETTINGS = STRANGE + [
-    [(0, 0)], ([0, 0],), ((0, 0), [0, 0]), ((0, 0),) * 5, ((0,),), ((0, 0, 0),), (0, 0), ((2, 0),), ((0, 5),),
-    ((-1, 0),), ((0, -1),), ((True, 0),), ((0, False),), ((0, 0), (0, True)), ((0, "0"),), ((0, None),),
-    ((0, 0), None), (((0, 0),),), ("00",), ((0, 0), "00"), ((0, 0), (1, 4), (1, 5)), 0, 1, 5,
-]
-NO_ROD_NUMBERS = STRANGE + [0, 5, -1, (1,), [1], "1"]
-NO_NUMBERS = STRANGE + [-1, 100000, (1,), [1], "1"]
 ASKING = ["all_settings", "how_many", "plain_setting", "least_beads"]
 READING = ["value", "all_beads"]
-
-
-# A few of the many numbers: both ends and beyond, and some between.
-def some_numbers(most):
-    step = max(1, most // 23)
-    picked = {0, 1, most - 1, most, most + 1, 99999} | set(range(0, most, step))
-    return sorted(number for number in picked if 0 <= number <= 99999)
 
 
 class IsSetting(unittest.TestCase):
@@ -178,20 +162,13 @@ class Greatest(unittest.TestCase):
 
 
 class PlainSetting(unittest.TestCase):
-    def by_hand(self, manner, rods, number):
-        setting = []
-        for digit in digits_by_hand(manner[3], rods, number):
-            those = [rod for rod in rods_of(manner) if worth_of(manner, rod) == digit]
-            setting.append(min((sum(rod), rod) for rod in those)[1])
-        return tuple(setting)
-
     def test_several_manners(self):
         for manner in MANNERS:
             for rods in range(1, 5):
                 for number in some_numbers(manner[3] ** rods - 2):
                     if number < manner[3] ** rods:
                         told = settings.plain_setting(manner, rods, number)
-                        self.assertEqual(told, self.by_hand(manner, rods, number), (manner, rods, number))
+                        self.assertEqual(told, plain_by_hand(manner, rods, number), (manner, rods, number))
 
     def test_it_is_among_the_settings_of_its_number(self):
         for manner in MANNERS:
@@ -205,7 +182,7 @@ class PlainSetting(unittest.TestCase):
         for manner in MANNERS:
             for rods in range(1, 5):
                 most = manner[3] ** rods - 1
-                self.assertEqual(settings.plain_setting(manner, rods, most), self.by_hand(manner, rods, most))
+                self.assertEqual(settings.plain_setting(manner, rods, most), plain_by_hand(manner, rods, most))
                 with self.assertRaises(TooGreat):
                     settings.plain_setting(manner, rods, most + 1)
 
