@@ -17,11 +17,17 @@ def setting_text(manner, setting):
 # Lines are held against those of all rods there are, so nothing but a drawing can be read.
 def read_setting(manner, text):
     check_manner(manner)
+    check_ended(text)
     known = rods_by_line(manner)
-    lines = whole_lines(text)
+    lines = text[:-1].split("\n")
     if len(lines) > MOST_RODS or not all([line in known for line in lines]):
         raise NoText("this is no drawing of a setting of the manner")
     return tuple([known[line] for line in lines])
+
+
+def check_ended(text):
+    if not isinstance(text, str) or not text.endswith("\n"):
+        raise NoText("this is no text whose last line is ended by a line feed")
 
 
 def rods_by_line(manner):
@@ -29,9 +35,3 @@ def rods_by_line(manner):
     for rod in all_rods(manner):
         known[rod_text(manner, rod)] = rod
     return known
-
-
-def whole_lines(text):
-    if not isinstance(text, str) or not text.endswith("\n"):
-        raise NoText("this is no text whose last line is ended by a line feed")
-    return text[:-1].split("\n")

@@ -168,6 +168,48 @@ class Names(unittest.TestCase):
                 self.assertIn(node.func.attr, set(METHODS) | own, (name, node.lineno))
 
 
+class Classes(unittest.TestCase):
+    def classes(self):
+        return [node for _, node in walk_all() if isinstance(node, ast.ClassDef)]
+
+    def values_given(self):
+        for _, node in walk_all():
+            if isinstance(node, ast.Attribute) and isinstance(node.ctx, ast.Store):
+                self.assertIsInstance(node.value, ast.Name, node.lineno)
+                self.assertFalse(node.value.id[0].isupper(), node.lineno)
+                yield node.attr
+
+    def test_classes_hold_methods_alone(self):
+        for node in self.classes():
+            self.assertEqual(node.decorator_list, [])
+            self.assertLessEqual(len(node.bases), 1, node.name)
+            for part in node.body:
+                self.assertIsInstance(part, (ast.FunctionDef, ast.Pass), node.name)
+            names = [part.name for part in node.body if isinstance(part, ast.FunctionDef)]
+            self.assertEqual(len(names), len(set(names)), node.name)
+
+    def test_classes_stand_at_the_top(self):
+        at_top = [
+            node for path in FILES for node in ast.parse(path.read_text(encoding="utf-8")).body
+            if isinstance(node, ast.ClassDef)
+        ]
+        self.assertEqual(len(at_top), len(self.classes()))
+
+    def test_no_name_is_a_method_and_a_value(self):
+        methods = {part.name for node in self.classes() for part in node.body if isinstance(part, ast.FunctionDef)}
+        values = set(self.values_given())
+        self.assertEqual(methods & values, set())
+        for name in values | (methods - set(DUNDERS) - {"add"}):
+            for kind in (str, int, list, dict, set, bytes, tuple):
+                self.assertFalse(hasattr(kind, name), (kind, name))
+
+    def test_making_gives_back_nothing(self):
+        for node in self.classes():
+            for part in node.body:
+                if isinstance(part, ast.FunctionDef) and part.name == "__init__":
+                    self.assertFalse([each for each in ast.walk(part) if isinstance(each, ast.Return)])
+
+
 class Imports(unittest.TestCase):
     def drawn_from(self, path):
         for node in ast.walk(ast.parse(path.read_text(encoding="utf-8"))):
